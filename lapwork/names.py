@@ -1,0 +1,9 @@
+"""What counts as a name."""
+
+# Written out, since Python's own questions for letters let signs beyond a to z by.
+LETTERS = "abcdefghijklmnopqrstuvwxyz"
+MOST_LETTERS = 12
+
+
+def is_name(text):
+    return 1 <= len(text) <= MOST_LETTERS and all([sign in LETTERS for sign in text])
