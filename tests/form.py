@@ -42,6 +42,13 @@ BARRED_WORDS = re.compile(
     r"\b(type|typing|typing_extensions|enum|Enum|IntEnum|StrEnum|Flag|IntFlag|Generic|Protocol|ABC|ABCMeta|namedtuple"
     r"|NamedTuple|TypedDict|TYPE_CHECKING|abstractmethod)\b|dataclass|overload|contextmanager"
 )
+WALKED = ("zip", "enumerate", "reversed", "range")
+WALKED_METHODS = ("items", "keys", "values")
+WALKERS = ("list", "tuple", "dict", "sorted", "sum", "any", "all", "enumerate", "zip")
+KEYWORDS = {
+    "sorted": ("key", "reverse"), "min": ("key", "default"), "max": ("key", "default"), "sum": ("start",),
+    "enumerate": ("start",), "zip": ("strict",),
+}
 BARRED_FILES = "test tests testing site conftest sitecustomize usercustomize".split()
 
 
@@ -81,7 +88,8 @@ def node_fault(node):
         return "L6"
     if isinstance(node, ast.Try) and node.finalbody:
         return "L6"
-    if isinstance(node, ast.Assign) and len(node.targets) != 1:
+    # A tuple of targets counts as several too: the narrower reading of the rule.
+    if isinstance(node, ast.Assign) and (len(node.targets) != 1 or isinstance(node.targets[0], (ast.Tuple, ast.List))):
         return "L6"
     if isinstance(node, ast.BinOp) and isinstance(node.op, (ast.Div, ast.MatMult)):
         return "L7"
@@ -109,6 +117,56 @@ def constant_fault(node):
     if isinstance(node.value, str) and "%" in node.value:
         return "L27"
     return None
+
+
+def called(node):
+    if not isinstance(node, ast.Call):
+        return None
+    if isinstance(node.func, ast.Name):
+        return node.func.id
+    return node.func.attr if isinstance(node.func, ast.Attribute) else None
+
+
+def walked_at_once(node, parent):
+    if isinstance(parent, (ast.For, ast.comprehension)):
+        return parent.iter is node
+    if called(parent) in ("min", "max"):
+        return parent.args == [node]
+    if called(parent) == "zip":
+        return node in parent.args
+    if called(parent) == "join":
+        return isinstance(parent.func.value, ast.Constant)
+    return called(parent) in WALKERS and parent.args[:1] == [node]
+
+
+def call_fault(node, parent):
+    """The rules of how Python's own are called; stricter than L24 in that no set is let by at all."""
+    if isinstance(node, ast.Set) or called(node) in ("set", "frozenset"):
+        return "L24"
+    if not isinstance(node, ast.Call):
+        return None
+    name = called(node)
+    plain = isinstance(node.func, ast.Name)
+    if plain and name in WALKED or not plain and name in WALKED_METHODS:
+        if not walked_at_once(node, parent):
+            return "L23"
+    if plain and name in OWN_NAMES or not plain and name in METHODS:
+        allowed = KEYWORDS.get(name, ()) if plain else ()
+        if not all(word.arg in allowed for word in node.keywords):
+            return "L22"
+    return None
+
+
+def annotation_fault(node):
+    if isinstance(node, ast.AnnAssign):
+        return "L21"
+    if isinstance(node, ast.arg) and node.annotation is not None:
+        return "L21"
+    return "L21" if isinstance(node, ast.FunctionDef) and node.returns is not None else None
+
+
+def parents_of(tree):
+    return {child: node for node in ast.walk(tree) for child in ast.iter_child_nodes(node)}
 
 
 def identity_fault(node):
@@ -215,10 +273,14 @@ def faults(text):
         found.append(("L15", 1))
     found.extend([(top_fault(node), node.lineno) for node in tree.body])
     taken = classes_and_imports(tree)
+    parents = parents_of(tree)
     for node in ast.walk(tree):
         line = getattr(node, "lineno", 0)
-        for rule in (node_fault(node), def_fault(node), name_fault(node, taken), import_fault(node)):
-            found.append((rule, line))
+        rules = (
+            node_fault(node), def_fault(node), name_fault(node, taken), import_fault(node), annotation_fault(node),
+            call_fault(node, parents.get(node)),
+        )
+        found.extend([(rule, line) for rule in rules])
     return [fault for fault in found if fault[0] is not None]
 
 

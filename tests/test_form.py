@@ -45,11 +45,27 @@ class TheLookItself(unittest.TestCase):
             ("L18", "class A:\n" + "    def f(self):\n        pass\n" * 2),
             ("L19", "def f():\n    try:\n        pass\n    except Exception:\n        pass\n"),
             ("L20", "def f(a):\n    return a is 3\n"), ("L25", "def f(a):\n    a.sort()\n"),
+            ("L6", "def f(p):\n    a, b = p\n    return a + b\n"), ("L21", "def f(a: int):\n    return a\n"),
+            ("L21", "def f(a) -> int:\n    return a\n"), ("L22", "def f(a):\n    return a.get(1, default=2)\n"),
+            ("L22", "def f(a):\n    return int(a, base=2)\n"), ("L23", "def f(a):\n    b = zip(a, a)\n    return b\n"),
+            ("L23", "def f(a):\n    return a.items()\n"), ("L23", "def f(a):\n    return max(range(a), 3)\n"),
+            ("L24", "def f(a):\n    b = set(a)\n    return b\n"), ("L24", "def f(a):\n    return a == {1}\n"),
             ("L27", "X = 'a % b'\n"), ("L27", "def f(a):\n    return 2 ** a\n"),
         ]
         for rule, text in cases:
             with self.subTest(rule=rule, text=text):
                 self.assertIn(rule, self.rules(text))
+
+    def test_what_is_within_the_rules_is_let_by(self):
+        cases = [
+            "def f(a):\n    return [b for b, c in zip(a, range(3))]\n", "def f(a):\n    return list(a.items())\n",
+            "def f(a):\n    return max(range(a))\n", "def f(a):\n    return sorted(a.keys(), key=len, reverse=True)\n",
+            "def f(a):\n    for b, c in enumerate(a, start=1):\n        return b + c\n",
+            "def f(a):\n    return ', '.join(reversed(a))\n", "def f(a):\n    return dict(zip(a, a))\n",
+        ]
+        for text in cases:
+            with self.subTest(text=text):
+                self.assertEqual(form.faults(text), [])
 
     def test_what_spans_files_is_seen(self):
         ring = {"lapwork.a": "from lapwork.b import f\n\ndef g():\n    pass\n",
