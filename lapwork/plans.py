@@ -1,6 +1,6 @@
 """Plans: a pace and a start for each row, and whether they fit a loop and a bench."""
 
-from lapwork.errors import BadPlan
+from lapwork.errors import BadPlan, Unfit
 from lapwork.ties import ties, works_of
 
 MOST_PACE = 200
@@ -37,6 +37,11 @@ def check_plan(pace, starts, count):
         raise BadPlan("a plan has one start for each row")
     if not all([0 <= start <= MOST_START for start in starts]):
         raise BadPlan("a start is from 0 to 2000")
+
+
+def check_fit(loop, bench, pace, starts):
+    if fault(loop, bench, pace, starts) is not None:
+        raise Unfit("the plan does not fit")
 
 
 def first_broken(bonds, pace, starts):

@@ -49,6 +49,7 @@ KEYWORDS = {
     "sorted": ("key", "reverse"), "min": ("key", "default"), "max": ("key", "default"), "sum": ("start",),
     "enumerate": ("start",), "zip": ("strict",),
 }
+CHANGES = "append clear extend insert pop remove reverse setdefault update".split()
 BARRED_FILES = "test tests testing site conftest sitecustomize usercustomize".split()
 
 
@@ -155,6 +156,31 @@ def call_fault(node, parent):
         if not all(word.arg in allowed for word in node.keywords):
             return "L22"
     return None
+
+
+def what_is_walked(walk):
+    """The values that a loop walks, as texts, also through enumerate, zip, reversed and items."""
+    if isinstance(walk, ast.Call) and isinstance(walk.func, ast.Name) and walk.func.id in WALKED:
+        return [text for part in walk.args for text in what_is_walked(part)]
+    if isinstance(walk, ast.Call) and isinstance(walk.func, ast.Attribute) and walk.func.attr in WALKED_METHODS:
+        return [ast.unparse(walk.func.value)]
+    return [ast.unparse(walk)] if isinstance(walk, (ast.Name, ast.Attribute, ast.Subscript)) else []
+
+
+def is_changed_by(node, texts):
+    if isinstance(node, ast.Subscript) and isinstance(node.ctx, ast.Store):
+        return ast.unparse(node.value) in texts
+    if isinstance(node, ast.Call) and isinstance(node.func, ast.Attribute) and node.func.attr in CHANGES:
+        return ast.unparse(node.func.value) in texts
+    return False
+
+
+def walk_fault(node):
+    if not isinstance(node, ast.For):
+        return None
+    texts = what_is_walked(node.iter)
+    inner = [part for line in node.body for part in ast.walk(line)]
+    return "L23" if any(is_changed_by(part, texts) for part in inner) else None
 
 
 def annotation_fault(node):
@@ -278,7 +304,7 @@ def faults(text):
         line = getattr(node, "lineno", 0)
         rules = (
             node_fault(node), def_fault(node), name_fault(node, taken), import_fault(node), annotation_fault(node),
-            call_fault(node, parents.get(node)),
+            call_fault(node, parents.get(node)), walk_fault(node),
         )
         found.extend([(rule, line) for rule in rules])
     return [fault for fault in found if fault[0] is not None]

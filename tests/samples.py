@@ -32,6 +32,18 @@ EACH_DEEPEST = {
     "last": 0,
 }
 
+# Three rows, each at an arm of its own, of which the last one waits for itself.
+CHAIN = Loop(97, [("x", "take", ()), ("a", "times", (("x", 0), 3)), ("b", "sum", (("a", 0), ("b", 1)))])
+CHAIN_BENCH = Bench(
+    [("door", 1), ("multer", 1), ("adder", 1)],
+    [("take", "door", 1, 1), ("times", "multer", 4, 2), ("sum", "adder", 2, 1)],
+)
+
+
+def lone(count):
+    """Rows without any tie, all at one arm of bench_of."""
+    return Loop(97, [(name, "same", (1,)) for name in NAMES[:count]])
+
 
 def rest_made(word, numbers, measure):
     rests = [number % measure for number in numbers]

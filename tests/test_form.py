@@ -50,6 +50,10 @@ class TheLookItself(unittest.TestCase):
             ("L22", "def f(a):\n    return int(a, base=2)\n"), ("L23", "def f(a):\n    b = zip(a, a)\n    return b\n"),
             ("L23", "def f(a):\n    return a.items()\n"), ("L23", "def f(a):\n    return max(range(a), 3)\n"),
             ("L24", "def f(a):\n    b = set(a)\n    return b\n"), ("L24", "def f(a):\n    return a == {1}\n"),
+            ("L23", "def f(a):\n    for b in a:\n        a.append(b)\n"),
+            ("L23", "def f(a):\n    for b, c in enumerate(a):\n        a[b] = c\n"),
+            ("L23", "def f(a):\n    for b, c in a.items():\n        if c:\n            a.pop(b)\n"),
+            ("L23", "def f(a):\n    for b, c in zip(a.rows, a.starts):\n        a.starts[b] = c\n"),
             ("L27", "X = 'a % b'\n"), ("L27", "def f(a):\n    return 2 ** a\n"),
         ]
         for rule, text in cases:
@@ -61,6 +65,8 @@ class TheLookItself(unittest.TestCase):
             "def f(a):\n    return [b for b, c in zip(a, range(3))]\n", "def f(a):\n    return list(a.items())\n",
             "def f(a):\n    return max(range(a))\n", "def f(a):\n    return sorted(a.keys(), key=len, reverse=True)\n",
             "def f(a):\n    for b, c in enumerate(a, start=1):\n        return b + c\n",
+            "def f(a):\n    for b in list(a):\n        a.pop(b)\n", "def f(a, c):\n    for b in c:\n        a.append(b)\n",
+            "def f(a):\n    for b in range(len(a)):\n        a[b] = 1\n",
             "def f(a):\n    return ', '.join(reversed(a))\n", "def f(a):\n    return dict(zip(a, a))\n",
         ]
         for text in cases:

@@ -10,18 +10,7 @@ from lapwork.errors import BadPlan, NoArm
 from lapwork.loops import Loop
 from lapwork.plans import fault, serial
 from lapwork.ties import ties
-from samples import EACH, GREAT, WORDS, bench_of
-
-CHAIN = Loop(97, [("x", "take", ()), ("a", "times", (("x", 0), 3)), ("b", "sum", (("a", 0), ("b", 1)))])
-CHAIN_BENCH = Bench(
-    [("door", 1), ("multer", 1), ("adder", 1)],
-    [("take", "door", 1, 1), ("times", "multer", 4, 2), ("sum", "adder", 2, 1)],
-)
-
-
-def lone(count):
-    """Rows without any tie, all at one arm of bench_of."""
-    return Loop(97, [(name, "same", (1,)) for name in samples.NAMES[:count]])
+from samples import CHAIN, CHAIN_BENCH, EACH, GREAT, WORDS, bench_of, lone
 
 
 def kept_ticks(loop, bench, pace, starts):
