@@ -36,6 +36,9 @@ class Bench:
     def arms(self):
         return list(self.widths)
 
+    def words(self):
+        return list(self.tasks)
+
 
 # Each arm is looked at ahead of their count, so of seven arms a bad one is told first.
 def check_arms(arms):

@@ -6,4 +6,8 @@ MOST_LETTERS = 12
 
 
 def is_name(text):
-    return 1 <= len(text) <= MOST_LETTERS and all([sign in LETTERS for sign in text])
+    return is_lettered(text) and len(text) <= MOST_LETTERS
+
+
+def is_lettered(text):
+    return len(text) > 0 and all([sign in LETTERS for sign in text])

@@ -147,3 +147,8 @@ def bench_of(delay=1, hold=1, width=1, others=()):
     own = {task[0]: task for task in others}
     works = [own.get(word, (word, "arm", delay, hold)) for word in WORDS]
     return Bench([("arm", width)], works)
+
+
+def bench_without(word):
+    """One arm for all words but this one."""
+    return Bench([("a", 4)], [(other, "a", 1, 1) for other in WORDS if other != word])

@@ -39,6 +39,7 @@ class Case(unittest.TestCase):
 
     def holds(self, bench, arms, works):
         self.assertEqual(bench.arms(), [arm[0] for arm in arms])
+        self.assertEqual(bench.words(), [task[0] for task in works])
         for name, width in arms:
             self.assertEqual(bench.width(name), width)
         for word, arm, delay, hold in works:
@@ -261,6 +262,7 @@ class WhoseItIs(Case):
         self.holds(bench, ARMS, WORKS)
         self.assertRaises(errors.NoArm, bench.width, "more")
         bench.arms().clear()
+        bench.words().clear()
         self.holds(bench, ARMS, WORKS)
 
     def test_what_was_told_stays_when_more_is_asked(self):

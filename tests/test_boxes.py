@@ -2,15 +2,14 @@
 
 import unittest
 
-import grounds
+import plannings
 import samples
 from lapwork.benches import Bench
 from lapwork.boxes import lives, rings
 from lapwork.errors import BadPlan, NoArm, Unfit
 from lapwork.loops import Loop
-from lapwork.planner import planned
-from lapwork.plans import fault, serial
-from samples import EACH, GREAT, WORDS, bench_of
+from lapwork.plans import fault
+from samples import EACH, GREAT, WORDS, bench_of, bench_without
 
 # x is read by two rows, a by itself and by a later row, late by a row above, out and idle by none.
 LOOP = Loop(97, [
@@ -143,29 +142,10 @@ class AgainstTheTicks(unittest.TestCase):
             if size > max(1, depths[row[0]]):
                 self.assertTrue(self.overwritten(life, size - 1, pace))
 
-    def test_serial_plans(self):
-        for seed in range(150):
-            loop, bench = samples.some_loop(seed), samples.some_bench(seed)
-            self.check(loop, bench, *serial(loop, bench))
-
-    def test_plans_of_the_planner(self):
-        for seed in range(150):
-            loop, bench = samples.some_loop(seed), samples.some_bench(seed)
-            self.check(loop, bench, *planned(loop, bench)[:2])
-        for seed in range(60):
-            loop, bench = grounds.tight(seed, 1, 8)
-            self.check(loop, bench, *planned(loop, bench)[:2])
-
-    def test_plans_moved_by_paces(self):
-        for seed in range(100):
-            loop, bench = samples.some_loop(seed), samples.some_bench(seed)
-            pace, starts = serial(loop, bench)
-            later = [start + pace * (number % 3) for number, start in enumerate(starts)]
-            if fault(loop, bench, pace, later) is None:
-                self.check(loop, bench, pace, later)
-            later = [start + pace * number for number, start in enumerate(starts)]
-            if fault(loop, bench, pace, later) is None:
-                self.check(loop, bench, pace, later)
+    def test_every_plan(self):
+        for plans in (plannings.serial_plans(150), plannings.best_plans(150, 60), plannings.gapped_plans(100)):
+            for each in plans:
+                self.check(*each)
 
 
 class Refused(unittest.TestCase):
@@ -179,7 +159,7 @@ class Refused(unittest.TestCase):
 
     def test_no_arm_ahead_of_all(self):
         for word in WORDS:
-            bench = Bench([("a", 4)], [(other, "a", 1, 1) for other in WORDS if other != word])
+            bench = bench_without(word)
             for pace, starts in ((1, [0] * 12), (0, [0] * 12), (201, [0] * 12), (1, []), (1, [-1] * 12), (0, [2001])):
                 self.refused(NoArm, Loop(97, EACH), bench, pace, starts)
             self.refused(NoArm, Loop(97, [("a", word, (1,) * samples.WANTS[word])]), bench, 1, [0])

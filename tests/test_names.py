@@ -1,8 +1,8 @@
-"""Point 2: a name is a text of one to twelve letters from a to z."""
+"""Point 2: a name is a text of one to twelve letters from a to z; and texts of such letters alone."""
 
 import unittest
 
-from lapwork.names import is_name
+from lapwork.names import is_lettered, is_name
 
 
 class Names(unittest.TestCase):
@@ -24,6 +24,14 @@ class Names(unittest.TestCase):
         for sign in others:
             for text in (sign, sign + "ab", "a" + sign + "b", "ab" + sign):
                 self.assertIs(is_name(text), False, repr(text))
+
+    def test_without_a_bound_for_their_count(self):
+        for length in (1, 12, 13, 4000):
+            self.assertIs(is_lettered("z" * length), True, length)
+        self.assertIs(is_lettered(""), False)
+        for sign in ("A", "1", " ", "@", "\n", "\u00e9", "`", "{"):
+            for text in (sign, sign + "ab", "a" + sign + "b", "ab" + sign):
+                self.assertIs(is_lettered(text), False, repr(text))
 
 
 if __name__ == "__main__":

@@ -252,7 +252,7 @@ class Planned(Telling):
 class Refused(unittest.TestCase):
     def test_no_arm(self):
         for word in WORDS:
-            bench = Bench([("a", 4)], [(other, "a", 1, 1) for other in WORDS if other != word])
+            bench = samples.bench_without(word)
             for rows in (EACH, [("a", word, (1,) * samples.WANTS[word])]):
                 for ask in (planned, lambda loop, bench: looked(loop, bench, 1), lambda loop, bench: looked(loop, bench, 80)):
                     with self.assertRaises(NoArm) as caught:

@@ -232,7 +232,7 @@ class Refused(unittest.TestCase):
 
     def test_no_arm_comes_ahead_of_bad_plans(self):
         for word in WORDS:
-            bench = Bench([("a", 4)], [(other, "a", 1, 1) for other in WORDS if other != word])
+            bench = samples.bench_without(word)
             loop = Loop(97, EACH)
             for pace, starts in ((1, [0] * 12), (0, [0] * 12), (201, [0] * 12), (1, []), (1, [-1] * 12), (0, [2001])):
                 self.refused(NoArm, loop, bench, pace, starts)
@@ -275,7 +275,7 @@ class Serial(unittest.TestCase):
 
     def test_refused_where_a_deed_has_no_work(self):
         for word in WORDS:
-            bench = Bench([("a", 4)], [(other, "a", 1, 1) for other in WORDS if other != word])
+            bench = samples.bench_without(word)
             for rows in (EACH, [("a", word, (1,) * samples.WANTS[word])]):
                 with self.assertRaises(NoArm) as caught:
                     serial(Loop(97, rows), bench)

@@ -489,7 +489,7 @@ class Refused(unittest.TestCase):
     def test_no_arm(self):
         trees = (("ring", []), ("ring", [0]), ("arm", "a", 0), ("arm", "none", 0), ("full", "a"), ("part", 1, []))
         for word in WORDS:
-            bench = Bench([("a", 4)], [(other, "a", 1, 1) for other in WORDS if other != word])
+            bench = samples.bench_without(word)
             for rows in (EACH, [("a", word, (1,) * samples.WANTS[word])]):
                 for tree in trees:
                     for pace in (1, 200):

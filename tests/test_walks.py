@@ -13,7 +13,7 @@ from lapwork.meaning import table
 from lapwork.planner import planned
 from lapwork.plans import fault, serial
 from lapwork.walks import walked
-from samples import EACH, GREAT, TOP, WORDS, bench_of
+from samples import EACH, GREAT, TOP, WORDS, bench_of, bench_without
 
 LOOP = Loop(100, [("x", "take", ()), ("acc", "sum", (("acc", 1), ("x", 0))), ("out", "less", (("x", 2), 130))])
 BENCH = Bench([("door", 1), ("desk", 2)], [("take", "door", 1, 1), ("sum", "desk", 2, 1), ("less", "desk", 1, 2)])
@@ -158,8 +158,7 @@ class Refused(unittest.TestCase):
         self.refused(NoArm, LOOP, bare, *self.fine)
         self.refused(NoArm, LOOP, bare, 0, [], -1, {}, {})
         for word in WORDS:
-            bench = Bench([("a", 4)], [(other, "a", 1, 1) for other in WORDS if other != word])
-            self.refused(NoArm, Loop(97, EACH), bench, 1, [0] * 12, 1, {}, {})
+            self.refused(NoArm, Loop(97, EACH), bench_without(word), 1, [0] * 12, 1, {}, {})
 
     def test_bad_plans_ahead_of_unfit_ones_and_of_runs(self):
         for pace, starts in ((0, [0, 1, 0]), (201, [0, 1, 0]), (2, [0, 1]), (2, [0, 1, 0, 0]), (2, [0, 1, -1]),
